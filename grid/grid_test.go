@@ -105,9 +105,9 @@ func wantedN(n int) int {
 	return n
 }
 
-// rowsOf answers l as rows, and whether cols are right and it is a grid of them.
+// rowsOf answers l as rows, and whether cols are right, it is a grid of them, and its rows are no more than there may be.
 func rowsOf(l []api.Cell, cols int) ([][]api.Cell, bool) {
-	if cols < 1 || cols > api.MaxSize || len(l)%cols != 0 {
+	if cols < 1 || cols > api.MaxSize || len(l)%cols != 0 || len(l)/cols > api.MaxSize {
 		return nil, false
 	}
 	var rows [][]api.Cell
@@ -365,15 +365,56 @@ func TestUpAndDownDontMend(t *testing.T) {
 	wantText(t, Up(of("RLLL"), 2, 0, 1, 0), "RLLL")
 }
 
-// TestManyRows: n is at most MaxSize, of however many rows there are.
-func TestManyRows(t *testing.T) {
-	for _, rows := range []int{api.MaxSize - 1, api.MaxSize, api.MaxSize + 1, api.MaxSize + 2} {
-		l := letters(rows)
-		for _, n := range []int{0, 1, rows - 1, rows, rows + 1, api.MaxSize - 1, api.MaxSize, api.MaxSize + 1, math.MaxInt} {
-			wantUp(t, l, 1, 0, rows-1, n)
-			wantDown(t, l, 1, 0, rows-1, n)
-			wantUp(t, l, 1, 1, rows-1, n)
-			wantDown(t, l, 1, 0, rows-2, n)
+// TestMostRows: rows up to MaxSize are rows as others are; of one more, each call answers the grid as it is.
+func TestMostRows(t *testing.T) {
+	for _, rows := range []int{api.MaxSize - 1, api.MaxSize, api.MaxSize + 1, api.MaxSize + 2, 2 * api.MaxSize} {
+		for cols := 1; cols <= 3; cols++ {
+			// Rows of narrow runes, and rows with halves that stand alone at their first column or at their last.
+			for _, l := range [][]api.Cell{letters(rows * cols), each(of(strings.Repeat("RaL"[:cols], rows))), each(of(strings.Repeat("LaR"[3-cols:], rows)))} {
+				wantMostRows(t, l, rows, cols)
+			}
+		}
+	}
+}
+
+// wantMostRows holds the calls that have no argument of that name for rows against the promises.
+func wantMostRows(t *testing.T, l []api.Cell, rows, cols int) {
+	t.Helper()
+	for _, n := range []int{0, 1, rows - 1, rows, api.MaxSize - 1, api.MaxSize, api.MaxSize + 1, math.MaxInt} {
+		wantUp(t, l, cols, 0, rows-1, n)
+		wantDown(t, l, cols, 0, rows-1, n)
+		wantUp(t, l, cols, 1, rows-1, n)
+		wantDown(t, l, cols, 0, rows-2, n)
+	}
+	for _, y := range []int{0, 1, rows / 2, rows - 2, rows - 1, rows} {
+		for x := range cols + 1 {
+			wantInsert(t, l, cols, y, x, 1)
+			wantDelete(t, l, cols, y, x, 1)
+			wantErase(t, l, cols, y, x, cols)
+		}
+		wantUp(t, l, cols, y, y, 1)
+		wantDown(t, l, cols, y, y, 1)
+		wantMend(t, l, cols, y)
+	}
+}
+
+// TestOneRowTooMany: by hand, of each of the six calls, next to the grid that has just as many rows as it may.
+func TestOneRowTooMany(t *testing.T) {
+	calls := map[string]func(l []api.Cell) []api.Cell{
+		"Up":     func(l []api.Cell) []api.Cell { return Up(l, 1, 0, 0, 1) },
+		"Down":   func(l []api.Cell) []api.Cell { return Down(l, 1, 0, 0, 1) },
+		"Insert": func(l []api.Cell) []api.Cell { return Insert(l, 1, 0, 0, 1) },
+		"Delete": func(l []api.Cell) []api.Cell { return Delete(l, 1, 0, 0, 1) },
+		"Erase":  func(l []api.Cell) []api.Cell { return Erase(l, 1, 0, 0, 1) },
+		"Mend":   func(l []api.Cell) []api.Cell { return Mend(l, 1, 0) },
+	}
+	for name, call := range calls {
+		most := "L" + strings.Repeat("a", api.MaxSize-1)
+		if said := told(call(of(most))); said != " "+most[1:] {
+			t.Errorf("%s of %d rows: the first cell is %q", name, api.MaxSize, said[:1])
+		}
+		if said := told(call(of(most + "b"))); said != most+"b" {
+			t.Errorf("%s of %d rows: the first cell is %q", name, api.MaxSize+1, said[:1])
 		}
 	}
 }
